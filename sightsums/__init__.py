@@ -1,0 +1,1 @@
+"""Sightsums: equations between unknown lists that see parts of a world."""
