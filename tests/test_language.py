@@ -12,6 +12,8 @@ BUILTINS = set(
     "all divmod super Exception ValueError TypeError KeyError IndexError LookupError ZeroDivisionError True False None"
     .split()
 )
+# Python's own shell, and doctest with it, puts the last value under the name _ among the builtins.
+ALL_BUILTINS = set(dir(builtins)) - {"_"}
 BARRED_NODES = (ast.AsyncFunctionDef, ast.Await, ast.Import, ast.Div, ast.MatMult)
 
 
@@ -91,10 +93,10 @@ class Language(unittest.TestCase):
             classes = {node.name for node in tree.body if isinstance(node, ast.ClassDef)}
             given = list(assigned_names(tree))
             self.assertFalse(set(given) & imports, name)
-            self.assertFalse({one for one in given if hasattr(builtins, one)}, name)
+            self.assertFalse(set(given) & ALL_BUILTINS, name)
             self.assertTrue(all(given.count(one) == 1 for one in classes), name)
             used = {node.id for node in ast.walk(tree) if isinstance(node, ast.Name)}
-            self.assertFalse({one for one in used if hasattr(builtins, one)} - BUILTINS, name)
+            self.assertFalse(used & ALL_BUILTINS - BUILTINS, name)
 
     def test_nothing_barred(self):
         for name, text in files():
