@@ -54,16 +54,19 @@ def world_with(shape, lot, word, kept):
     return tuple(letters)
 
 
+def signed_corners(shape, lot, word):
+    """The pairs of a world and the 1 or -1 by which a table's entry there counts in the cube at the word."""
+    found = []
+    for kept in held_lots(lot):
+        sign = 1 if (len(lot) - len(kept)) % 2 == 0 else -1
+        found.append((world_with(shape, lot, word, kept), sign))
+    return found
+
+
 def cube_at(shape, m, table, lot, word):
     """The cube of the table at the word over the lot, all of them valid."""
-    found = 0
-    for kept in held_lots(lot):
-        entry = met_entry(shape, all_places(shape), table, world_with(shape, lot, word, kept))
-        if (len(lot) - len(kept)) % 2 == 0:
-            found = found + entry
-        else:
-            found = found - entry
-    return reduced(m, found)
+    corners = signed_corners(shape, lot, word)
+    return reduced(m, sum([sign * met_entry(shape, all_places(shape), table, world) for world, sign in corners]))
 
 
 def part_for(shape, m, table, lot):

@@ -102,12 +102,17 @@ def need_word(shape, lot, word):
         raise BadWord(word)
 
 
+def letters_at(lot, world):
+    """The word over a valid lot that has the world's letters."""
+    return tuple([world[place] for place in lot])
+
+
 def word_of(shape, lot, world):
     """The word of the world over the lot."""
     need_shape(shape)
     need_lot(shape, lot)
     need_word(shape, all_places(shape), world)
-    return tuple([world[place] for place in lot])
+    return letters_at(lot, world)
 
 
 def is_number(m, thing):

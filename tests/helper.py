@@ -1,4 +1,5 @@
-"""What the tests share: sample worlds and tables, values that are wrong, and how the errors are checked.
+"""What the tests share: samples, values that are wrong, what the document's words say of a certificate, and how the
+errors are checked.
 
 What is worked out here is worked out otherwise than in the package, so that the two can be compared.
 """
@@ -6,7 +7,9 @@ What is worked out here is worked out otherwise than in the package, so that the
 import copy
 import functools
 import itertools
+import math
 import random
+from fractions import Fraction
 
 SHAPES = (
     (1,), (2,), (3,), (4,), (1, 1), (2, 2), (3, 2), (1, 4), (4, 1), (4, 4), (2, 2, 2), (3, 1, 2), (2, 3, 4),
@@ -23,6 +26,19 @@ ODD_VALUES = (
     ("lists",), ("cube",), ("lists", None), ("lists", ((True,),)), ("cube", None, None), ("cube", (0,), [1]),
     ("lists", [], []), ("cube", ()), ("cube", (0,), (0,), (0,)), ("bar", (0,), (1,), ((1, 2),)),
     ((), 1), (1, ()), ("lists", {}), ("cube", {}, {}), ([], [], []), ["lists", ()], ["cube", (0,), (1,)],
+)
+# Values that look like certificates, to be tried as ODD_VALUES are.
+KINDS = ("solution", "row", "told", "open", "lists", "bar", "cube", "weights", "alike", "sum")
+ODD_CERTIFICATES = (
+    *[(kind,) for kind in KINDS], *[(kind, None) for kind in KINDS], *[(kind, [()]) for kind in KINDS],
+    *[(kind, {"a": [(1, 2)]}) for kind in KINDS], *[[kind, ((0, 1),)] for kind in KINDS],
+    *[(kind, "((1, 2),)") for kind in KINDS], *[(kind, ((1, 2), [1, 2])) for kind in KINDS],
+    *[(kind, ((0, 2), (1, 0), (True, 2), (1, -2), (1, 2, 3))) for kind in KINDS],
+    *[(kind, (((0, 0), 0, (1, 0)), ((0, 0), None, [1, 2]))) for kind in KINDS], *[(kind, kind, kind) for kind in KINDS],
+    ("bar", None, None, None), ("bar", [], [], []), ("bar", (0,), (1,), ((1, 2), (1, 2), (1, 2), (1, 2), (1, 2))),
+    ("bar", (0,), (True,), ((1, 2),)), ("bar", (0, 1), (1, 1)), ("bar", {}, {}, {}, {}), ("bar", (9,), (9,), ((1, 2),)),
+    ("told", ((((((((((1,),),),),),),),),),)), ("row", tuple((1, k + 2) for k in range(900))),
+    ("solution", (10 ** 99,) * 60), ("told", ((10 ** 99, 10 ** 98),) * 4), ("row", ((10 ** 98, 10 ** 99),) * 4),
 )
 NO_SHAPES = (
     (), (2, 2, 2, 2, 2), (0,), (5,), (2, 0), (2, 5), (-1,), (True,), (2, True), (False, 2), [2, 2], [], {2: 2},
@@ -94,6 +110,7 @@ def sum_by_search(shape, m, lots, lists):
     return tuple(sums)
 
 
+@functools.lru_cache(maxsize=None)
 def parts_by_removal(shape, m, table):
     """The part for each lot: what the table has at the lot's worlds beyond the parts for smaller lots."""
     entries = dict(zip(every_world(shape), table))
@@ -111,6 +128,217 @@ def parts_by_removal(shape, m, table):
 
 def lots_with_parts(shape, m, table):
     return [lot for lot, entries in parts_by_removal(shape, m, table).items() if any(entries)]
+
+
+def is_integer(thing):
+    return type(thing) is int
+
+
+def is_fraction(thing):
+    if type(thing) is not tuple or len(thing) != 2 or not all(is_integer(item) for item in thing):
+        return False
+    return thing[1] >= 1 and math.gcd(*thing) == 1
+
+
+def is_share_row(m, many, thing):
+    """Whether the thing is a row of so many fractions [3.2]."""
+    if type(thing) is not tuple or len(thing) != many or not all(is_fraction(item) for item in thing):
+        return False
+    return all(0 <= Fraction(*item) < 1 and (m == 0 or m // item[1] * item[1] == m) for item in thing)
+
+
+def is_multiple(m, thing):
+    """Whether the thing is a fraction, for a modulus other than 0 a number by it over 1 [3.4]."""
+    return is_fraction(thing) and (m == 0 or (thing[1] == 1 and 0 <= thing[0] < m))
+
+
+def is_kind(thing, kind, size):
+    return type(thing) is tuple and len(thing) == size and type(thing[0]) is str and thing[0] == kind
+
+
+def row_sums(rows, row):
+    return [sum(a * b for a, b in zip(one, row)) for one in rows]
+
+
+def is_right_solution(m, rows, sides, thing):
+    if not is_row_of_numbers(m, len(rows[0]), thing):
+        return False
+    return all(made_by(m, found - side) == 0 for found, side in zip(row_sums(rows, thing), sides))
+
+
+def is_right_bar(m, rows, sides, thing):
+    """Whether the thing is a row of fractions that bars the rows and sides [3.2]."""
+    if not is_share_row(m, len(rows), thing):
+        return False
+    shares = [Fraction(*item) for item in thing]
+    columns = [[row[k] for row in rows] for k in range(len(rows[0]))]
+    wholes = [found.denominator == 1 for found in row_sums(columns, shares)]
+    return all(wholes) and sum(a * b for a, b in zip(shares, sides)).denominator != 1
+
+
+def is_right_for_system(m, rows, sides, thing):
+    if is_kind(thing, "solution", 2):
+        return is_right_solution(m, rows, sides, thing[1])
+    return is_kind(thing, "row", 2) and is_right_bar(m, rows, sides, thing[1])
+
+
+def is_right_for_sure(m, rows, weights, thing):
+    if is_kind(thing, "open", 2):
+        if not is_right_solution(m, rows, [0] * len(rows), thing[1]):
+            return False
+        return made_by(m, sum(a * b for a, b in zip(weights, thing[1]))) != 0
+    if not is_kind(thing, "told", 2) or type(thing[1]) is not tuple or len(thing[1]) != len(rows):
+        return False
+    if not all(is_multiple(m, item) for item in thing[1]):
+        return False
+    shares = [Fraction(*item) for item in thing[1]]
+    columns = [[row[k] for row in rows] for k in range(len(weights))]
+    return all(made_by(m, found - c) == 0 for found, c in zip(row_sums(columns, shares), weights))
+
+
+def every_share_row(m, many):
+    """All rows of fractions with bottoms that divide a modulus other than 0."""
+    shares = [Fraction(top, m) for top in range(m)]
+    return list(itertools.product([(share.numerator, share.denominator) for share in shares], repeat=many))
+
+
+def every_row(m, many):
+    return list(itertools.product(range(m), repeat=many))
+
+
+def rank(rows):
+    """The rank of rows of integers or fractions."""
+    rows, found = [[Fraction(item) for item in row] for row in rows], 0
+    while rows and rows[0]:
+        heads = [row for row in rows if row[0] != 0]
+        if heads:
+            found += 1
+            rest = [row for row in rows if row is not heads[0]]
+            rows = [[b - a * row[0] / heads[0][0] for a, b in zip(heads[0], row)] for row in rest]
+        rows = [row[1:] for row in rows]
+    return found
+
+
+def some_rows(rng, high, many, size):
+    """Rows of integers up to the high one: of any kind, with many zeros, or multiples of few rows."""
+    style = rng.randrange(4)
+    if style == 0:
+        return tuple(tuple(rng.choice((0, 0, 1, -1, high, -high)) for _ in range(size)) for _ in range(many))
+    if style == 1:
+        one = [rng.randint(-3, 3) for _ in range(size)]
+        return tuple(tuple(times * item for item in one) for times in (rng.randint(-3, 3) for _ in range(many)))
+    return tuple(tuple(rng.randint(-high, high) for _ in range(size)) for _ in range(many))
+
+
+def is_plan(shape, m, scheme, thing):
+    if type(thing) is not tuple or len(thing) != len(scheme[0]):
+        return False
+    return all(is_row_of_numbers(m, len(every_word(shape, lot)), one) for lot, one in zip(scheme[0], thing))
+
+
+def demand_by_search(shape, m, scheme, plan):
+    """The demand of a plan, each entry looked up by its word."""
+    tables = [spread_by_search(shape, lot, entries) for lot, entries in zip(scheme[0], plan)]
+    return tuple(
+        tuple(made_by(m, sum(a * b for a, b in zip(sums, met))) for met in zip(*tables)) for sums in scheme[1]
+    )
+
+
+def small_by_words(shape, m, scheme, demand, lot, word):
+    """The small system of the lot and the word [4.2]."""
+    rows = tuple(tuple(a for a, big in zip(sums, scheme[0]) if set(lot) <= set(big)) for sums in scheme[1])
+    at = every_word(shape, lot).index(word)
+    return rows, tuple(parts_by_removal(shape, m, table)[lot][at] for table in demand)
+
+
+def is_right_for_demand(shape, m, scheme, demand, thing):
+    if is_kind(thing, "lists", 2):
+        return is_plan(shape, m, scheme, thing[1]) and demand_by_search(shape, m, scheme, thing[1]) == demand
+    if not is_kind(thing, "bar", 4) or not is_among(thing[1], every_lot(shape)):
+        return False
+    if not is_among(thing[2], every_word(shape, thing[1])):
+        return False
+    return is_right_bar(m, *small_by_words(shape, m, scheme, demand, thing[1], thing[2]), thing[3])
+
+
+def asked_by_search(shape, m, scheme, question, plan):
+    """The sum of c times the entry of the list i at the word, over the question's triples."""
+    met = [dict(zip(every_word(shape, lot), entries)) for lot, entries in zip(scheme[0], plan)]
+    return made_by(m, sum(c * met[i][word] for i, word, c in question))
+
+
+def given_by_words(shape, scheme, triples):
+    """What triples of a world, a position and a fraction give to each list's entries [5.2]."""
+    given = {(i, word): Fraction(0) for i, lot in enumerate(scheme[0]) for word in every_word(shape, lot)}
+    for world, e, multiple in triples:
+        for i, lot in enumerate(scheme[0]):
+            given[i, tuple(world[place] for place in lot)] += Fraction(*multiple) * scheme[1][e][i]
+    return given
+
+
+def is_right_for_question(shape, m, scheme, question, thing):
+    if is_kind(thing, "open", 2):
+        if not is_plan(shape, m, scheme, thing[1]):
+            return False
+        if any(map(any, demand_by_search(shape, m, scheme, thing[1]))):
+            return False
+        return asked_by_search(shape, m, scheme, question, thing[1]) != 0
+    if not is_kind(thing, "told", 2) or type(thing[1]) is not tuple:
+        return False
+    for item in thing[1]:
+        if type(item) is not tuple or len(item) != 3 or not is_among(item[0], every_world(shape)):
+            return False
+        if not is_among(item[1], range(len(scheme[1]))) or not is_multiple(m, item[2]):
+            return False
+    spots = [item[:2] for item in thing[1]]
+    if sorted(thing[1]) != list(thing[1]) or len(set(spots)) != len(spots):
+        return False
+    given = given_by_words(shape, scheme, thing[1])
+    for i, word, c in question:
+        given[i, word] -= c
+    return all(made_by(m, rest) == 0 for rest in given.values())
+
+
+def some_scheme(rng, shape, lists, sums, high):
+    """A scheme with multiples up to the high one, among them often 0 and one of the few below 0."""
+    lots = tuple(rng.choice(every_lot(shape)) for _ in range(lists))
+    return lots, some_rows(rng, high, sums, lists)
+
+
+def some_plan(rng, shape, m, scheme):
+    return tuple(some_list(rng, shape, m, lot) for lot in scheme[0])
+
+
+def every_plan(shape, m, scheme):
+    """All plans, for a modulus other than 0."""
+    return list(itertools.product(*[every_row(m, len(every_word(shape, lot))) for lot in scheme[0]]))
+
+
+def spoiled(thing):
+    """Copies of a nested tuple, each with one thing changed, left out, repeated, exchanged or put in another dress."""
+    if type(thing) is not tuple:
+        yield from (None, [thing], str(thing), (thing,))
+        if type(thing) is int:
+            yield from (thing + 1, thing - 1, -thing - 1, bool(thing), 10 ** 99)
+        return
+    yield list(thing)
+    yield thing + (0,)
+    for k, item in enumerate(thing):
+        yield thing[:k] + thing[k + 1:]
+        yield thing[:k] + (item,) + thing[k:]
+        if k and thing[k] != thing[k - 1]:
+            yield thing[:k - 1] + (item, thing[k - 1]) + thing[k + 1:]
+        for other in spoiled(item):
+            yield thing[:k] + (other,) + thing[k + 1:]
+
+
+def check_spoiled(test, holds, is_right, given, thing, rng=None, many=200):
+    """Check that a function accepts a spoiled certificate exactly if the words of the document do."""
+    things = [other for other in spoiled(thing) if repr(other) != repr(thing)]
+    if rng is not None and len(things) > many:
+        things = rng.sample(things, many)
+    for other in things:
+        test.assertIs(holds(*given, other), is_right(*given, other), (holds.__name__, given, other))
 
 
 def raised(function, *values, **named):
