@@ -5,8 +5,8 @@ up a plan: each list has its number wherever a world has the letters of the word
 """
 
 from sightsums.cubes import cube_at, does_hold, held_lots, is_certificate, world_with
-from sightsums.errors import BadDemand, BadPlan, BadScheme
-from sightsums.forms import diagonal_form, weighted
+from sightsums.errors import BadDemand, BadPlan, BadScheme, Barred
+from sightsums.forms import diagonal_form, turned, weighted
 from sightsums.shapes import (
     all_places, are_lists_over, is_list_over, is_lot, is_tuple_of_lots, is_word, letters_at, met_entry,
     need_lot, need_modulus, need_shape, need_word, reduced, words_over, worlds,
@@ -70,11 +70,17 @@ def met_entries(shape, scheme, plan, world):
     return [met_entry(shape, lot, entries, world) for lot, entries in zip(lots, plan)]
 
 
+def numbers_for(shape, m, scheme, plan, world):
+    """The numbers of the demand of a valid plan at the world, one for each sum."""
+    _, sums = scheme
+    met = met_entries(shape, scheme, plan, world)
+    return tuple([reduced(m, weighted(multiples, met)) for multiples in sums])
+
+
 def demand_for(shape, m, scheme, plan):
     """The demand of a plan, both valid."""
-    _, sums = scheme
-    met = [met_entries(shape, scheme, plan, world) for world in worlds(shape)]
-    return tuple([tuple([reduced(m, weighted(multiples, entries)) for entries in met]) for multiples in sums])
+    rows = [numbers_for(shape, m, scheme, plan, world) for world in worlds(shape)]
+    return tuple([tuple(table) for table in turned(rows)])
 
 
 def demand_of(shape, m, scheme, plan):
@@ -169,6 +175,19 @@ def judge_demand(shape, m, scheme, demand):
     """Any certificate of [4.2]: a plan that keeps the demand, or a row of fractions that bars a small system."""
     need_demand(shape, m, scheme, demand)
     return judge_tables(shape, m, scheme, demand)
+
+
+def can_keep(shape, m, scheme, demand):
+    """Whether a valid demand can be kept."""
+    return judge_tables(shape, m, scheme, demand)[0] == "lists"
+
+
+def kept_plan(shape, m, scheme, demand):
+    """A plan that keeps a valid demand; raises Barred if there is none."""
+    certificate = judge_tables(shape, m, scheme, demand)
+    if certificate[0] == "bar":
+        raise Barred(certificate)
+    return certificate[1]
 
 
 def does_keep(shape, m, scheme, demand, thing):

@@ -2,10 +2,9 @@
 
 from sightsums.cubes import does_hold, is_certificate, signed_corners, world_with
 from sightsums.demands import (
-    demand_for, is_plan, is_scheme, judge_tables, need_demand, need_scheme, number_for_each, plan_from,
-    small_forms,
+    demand_for, is_plan, is_scheme, kept_plan, need_demand, need_scheme, number_for_each, plan_from, small_forms,
 )
-from sightsums.errors import BadQuestion, BadScheme, Barred
+from sightsums.errors import BadQuestion, BadScheme
 from sightsums.ratios import as_fraction, common_bottom, is_multiple, tops_over
 from sightsums.shapes import (
     all_places, is_ascending, is_below, is_plain_integer, is_word, letters_at, met_entry, need_shape, reduced,
@@ -147,15 +146,18 @@ def given_tops(scheme, triples, bottom):
     return found
 
 
-def do_triples_tell(shape, m, scheme, question, thing):
-    """Whether any value is triples that give to each entry just the c that the question has for it."""
-    if not are_told(shape, m, scheme, thing):
-        return False
-    bottom = common_bottom([multiple for _, _, multiple in thing])
-    rest = given_tops(scheme, thing, bottom)
+def do_give(m, scheme, triples, question):
+    """Whether the triples give to each entry just the c that the question has for it, and 0 to all others."""
+    bottom = common_bottom([multiple for _, _, multiple in triples])
+    rest = given_tops(scheme, triples, bottom)
     for i, word, c in question:
         rest[(i, word)] = rest.get((i, word), 0) - c * bottom
     return all([reduced(m, top) == 0 for top in rest.values()])
+
+
+def do_triples_tell(shape, m, scheme, question, thing):
+    """Whether any value is triples that give to each entry just the c that the question has for it."""
+    return are_told(shape, m, scheme, thing) and do_give(m, scheme, thing, question)
 
 
 def does_plan_differ(shape, m, scheme, question, thing):
@@ -182,10 +184,8 @@ def answer(shape, m, scheme, demand, question):
     """The sum that the question asks for, for all plans that keep the demand; None if it is not sure."""
     need_demand(shape, m, scheme, demand)
     need_question(shape, scheme, question)
-    certificate = judge_tables(shape, m, scheme, demand)
-    if certificate[0] == "bar":
-        raise Barred(certificate)
+    plan = kept_plan(shape, m, scheme, demand)
     kind, _ = judge_terms(shape, m, scheme, question)
     if kind == "open":
         return None
-    return asked_sum(shape, m, scheme, certificate[1], question)
+    return asked_sum(shape, m, scheme, plan, question)

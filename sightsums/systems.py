@@ -207,11 +207,19 @@ def multiples_in(m, form, weights):
     return tuple([as_fraction(reduced(m, top), bottom) for top in tops])
 
 
-def judge_weights(m, form, weights):
-    """Any certificate of [3.4] about the rows with the form, and the weights."""
+def open_row(m, form, weights):
+    """A loose row of the rows with the form for which the weighted sum is not 0, None if there is none."""
     for row, _ in loose_pairs(m, form):
         if reduced(m, weighted(row, weights)) != 0:
-            return ("open", row)
+            return row
+    return None
+
+
+def judge_weights(m, form, weights):
+    """Any certificate of [3.4] about the rows with the form, and the weights."""
+    row = open_row(m, form, weights)
+    if row is not None:
+        return ("open", row)
     return ("told", multiples_in(m, form, weights))
 
 

@@ -11,6 +11,8 @@ import math
 import random
 from fractions import Fraction
 
+from sightsums.errors import Barred
+
 SHAPES = (
     (1,), (2,), (3,), (4,), (1, 1), (2, 2), (3, 2), (1, 4), (4, 1), (4, 4), (2, 2, 2), (3, 1, 2), (2, 3, 4),
     (4, 4, 4), (1, 1, 1, 1), (2, 2, 2, 2), (1, 2, 1, 3), (2, 4, 2, 4), (4, 4, 2, 2),
@@ -297,6 +299,83 @@ def is_right_for_question(shape, m, scheme, question, thing):
     for i, word, c in question:
         given[i, word] -= c
     return all(made_by(m, rest) == 0 for rest in given.values())
+
+
+def numbers_by_search(shape, m, scheme, plan):
+    """For each world the numbers of the plan's demand there, one for each sum."""
+    return dict(zip(every_world(shape), zip(*demand_by_search(shape, m, scheme, plan))))
+
+
+def given_by_rows(shape, scheme, some, rows):
+    """What rows of fractions, one for each of some worlds, give to each list's entries [6.1, 6.2]."""
+    triples = [(world, e, one) for world, row in zip(some, rows) for e, one in enumerate(row)]
+    return given_by_words(shape, scheme, triples)
+
+
+def is_right_for_told(shape, m, scheme, told, thing):
+    if is_kind(thing, "lists", 2):
+        if not is_plan(shape, m, scheme, thing[1]):
+            return False
+        found = numbers_by_search(shape, m, scheme, thing[1])
+        return all(found[world] == numbers for world, numbers in told)
+    if not is_kind(thing, "weights", 2) or type(thing[1]) is not tuple or len(thing[1]) != len(told):
+        return False
+    if not all(is_share_row(m, len(scheme[1]), row) for row in thing[1]):
+        return False
+    given = given_by_rows(shape, scheme, [world for world, _ in told], thing[1])
+    if any(one.denominator != 1 for one in given.values()):
+        return False
+    parts = [Fraction(*one) * k for row, (_, numbers) in zip(thing[1], told) for one, k in zip(row, numbers)]
+    return Fraction(sum(parts)).denominator != 1
+
+
+def is_right_for_further(shape, m, scheme, some, world, e, thing):
+    if is_kind(thing, "open", 2):
+        if not is_plan(shape, m, scheme, thing[1]):
+            return False
+        found = numbers_by_search(shape, m, scheme, thing[1])
+        return not any(any(found[told]) for told in some) and found[world][e] != 0
+    if not is_kind(thing, "told", 2) or type(thing[1]) is not tuple or len(thing[1]) != len(some):
+        return False
+    for row in thing[1]:
+        if type(row) is not tuple or len(row) != len(scheme[1]) or not all(is_multiple(m, one) for one in row):
+            return False
+    given = given_by_rows(shape, scheme, some, thing[1])
+    for i, lot in enumerate(scheme[0]):
+        given[i, tuple(world[place] for place in lot)] -= scheme[1][e][i]
+    return all(made_by(m, rest) == 0 for rest in given.values())
+
+
+def unheard_system(shape, m, scheme, demand, heard, one, other):
+    """The rows of the lists that are not heard, and the differences of the demand's numbers [8.2]."""
+    rows = tuple(tuple(a for i, a in enumerate(sums) if i not in heard) for sums in scheme[1])
+    at, to = every_world(shape).index(one), every_world(shape).index(other)
+    return rows, tuple(made_by(m, table[to] - table[at]) for table in demand)
+
+
+def is_right_for_alike(shape, m, scheme, demand, heard, one, other, thing):
+    rows, sides = unheard_system(shape, m, scheme, demand, heard, one, other)
+    if is_kind(thing, "alike", 2):
+        return is_right_solution(m, rows, sides, thing[1])
+    return is_kind(thing, "sum", 2) and is_right_bar(m, rows, sides, thing[1])
+
+
+def sights_by_paths(lots, web, k):
+    """The lots behind k rounds: a list sees the places of each list from which at most k steps lead to it."""
+    lists = range(len(lots))
+    steps = {(a, b): 0 if a == b else 1 if (a, b) in web else math.inf for a in lists for b in lists}
+    for c, a, b in itertools.product(lists, repeat=3):
+        steps[a, b] = min(steps[a, b], steps[a, c] + steps[c, b])
+    return tuple(tuple(sorted({place for a in lists if steps[a, b] <= k for place in lots[a]})) for b in lists)
+
+
+def check_barred(test, function, shape, m, scheme, demand, *others):
+    """Check that a function raises Barred with a right bar of the demand."""
+    error = raised(function, shape, m, scheme, demand, *others)
+    test.assertIs(type(error), Barred, function.__name__)
+    test.assertEqual(list(vars(error)), ["certificate"])
+    test.assertEqual(error.certificate[0], "bar")
+    test.assertTrue(is_right_for_demand(shape, m, scheme, demand, error.certificate))
 
 
 def some_scheme(rng, shape, lists, sums, high):

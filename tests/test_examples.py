@@ -48,6 +48,30 @@ SURE = """
 [True, 2, None, True, True]
 """
 
+PARTIAL = """
+>>> from sightsums.partial import clash, does_settle, further_holds, judge_further, judge_told, settling, told_holds
+>>> PAIR = (((0,), (1,)), ((1, 1),))
+>>> THREE, FOUR = (((0, 0), (1,)), ((0, 1), (2,)), ((1, 0), (3,))), (((0, 0), (1,)), ((0, 1), (2,)), ((1, 0), (3,)), ((1, 1), (5,)))
+>>> [judge_told((2, 2), 0, PAIR, FOUR)[0], told_holds((2, 2), 0, PAIR, FOUR, ('weights', (((1, 2),), ((1, 2),), ((1, 2),), ((1, 2),)))), clash((2, 2), 0, PAIR, FOUR), judge_further((2, 2), 0, PAIR, ((0, 0), (0, 1), (1, 0)), (1, 1), 0)]
+['weights', True, (0, 1, 2, 3), ('told', (((-1, 1),), ((1, 1),), ((1, 1),)))]
+>>> [does_settle((2, 2), 0, PAIR, ((0, 0), (0, 1), (1, 0))), settling((2, 2), 0, PAIR, ((0, 0), (1, 1))) in (((0, 0), (0, 1), (1, 1)), ((0, 0), (1, 0), (1, 1))), clash((2, 2), 0, PAIR, THREE)]
+[True, True, None]
+"""
+
+HANDS = """
+>>> from sightsums.hands import least_rounds, least_sights, needless, sights_after
+>>> PAIR, AND = (((0,), (1,)), ((1, 1),)), ((0, 0, 0, 1),)
+>>> [sights_after((2, 2), ((0,), (1,)), ((0, 1),), 1), least_rounds((2, 2), 2, PAIR, AND, ((0, 1),)), least_rounds((2, 2), 2, PAIR, AND, ()), needless((2, 2), 2, (((0, 1), (1,)), ((1, 1),)), AND), least_sights((2, 2), 2, (((0, 1), (1,)), ((1, 1),)), AND)]
+[((0,), (0, 1)), 1, None, (1,), ((0, 1), ())]
+"""
+
+WATCHERS = """
+>>> from sightsums.watchers import alike_holds, hidden_places, judge_alike, lots_alike, many_heard
+>>> PAIR, ODD = (((0,), (1,)), ((1, 1),)), ((0, 1, 1, 0),)
+>>> [judge_alike((2, 2), 2, PAIR, ODD, (0,), (0, 0), (0, 1)), judge_alike((2, 2), 2, PAIR, ODD, (0, 1), (0, 0), (0, 1)), lots_alike((2, 2), 2, PAIR, ODD, (0, 1)), hidden_places((2, 2), 2, PAIR, ODD, (0,)), hidden_places((2, 2), 2, PAIR, ODD, (0, 1)), many_heard((2, 2), 2, PAIR, (0, 1))]
+[('alike', (1,)), ('sum', ((1, 2),)), (((0, 0), (1, 1)), ((0, 1), (1, 0))), (0, 1), (), 2]
+"""
+
 
 def failures(text, name):
     """What doctest prints of the examples that failed."""
@@ -77,6 +101,15 @@ class Examples(unittest.TestCase):
 
     def test_sure(self):
         self.check(SURE, "sightsums.sure", 4)
+
+    def test_partial(self):
+        self.check(PARTIAL, "sightsums.partial", 5)
+
+    def test_hands(self):
+        self.check(HANDS, "sightsums.hands", 3)
+
+    def test_watchers(self):
+        self.check(WATCHERS, "sightsums.watchers", 3)
 
     def test_barred(self):
         pair = (((0,), (1,)), ((1, 1),))

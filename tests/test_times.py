@@ -6,12 +6,24 @@ import unittest
 
 import helper
 from sightsums.demands import demand_holds, demand_of, judge_demand, many_plans, small_system
+from sightsums.hands import least_rounds, least_sights, needless, sights_after
+from sightsums.partial import clash, does_settle, further_holds, judge_further, judge_told, settling, told_holds
 from sightsums.shapes import worlds
 from sightsums.sure import answer, judge_question, question_holds
 from sightsums.systems import judge_sure, judge_system, loose_base, many_loose, sure_holds, system_holds
+from sightsums.watchers import alike_holds, hidden_places, judge_alike, lots_alike, many_heard
 
 SECONDS = 3
 MODULI = (0, 10 ** 12, 10 ** 12 - 11, 2 ** 39, 3 ** 25, 963761198400)
+# Schemes and worlds, looked for, whose systems come to long numbers on the way to their diagonal form.
+LONG = (
+    ((4, 4, 4), ((1,), (0,), (0, 1, 2), (1, 2)), ((3, 8, -9, -5), (8, 3, -7, 6)),
+     ((0, 0, 0), (0, 1, 0), (1, 1, 2), (1, 3, 3), (2, 3, 1), (3, 0, 3), (3, 2, 1), (3, 3, 3))),
+    ((2, 3, 4), ((1,), (0, 2), (1, 2), (0, 1, 2)), ((-2, 9, 5, 9), (5, -2, 9, -7)),
+     ((0, 0, 0), (0, 0, 3), (0, 1, 3), (0, 2, 0), (1, 1, 0), (1, 1, 2), (1, 1, 3), (1, 2, 1))),
+    ((4, 4), ((0, 1), (0,), (0, 1), (1,)), ((9, -2, -7, -9), (8, 9, 2, 2)),
+     ((0, 3), (1, 0), (1, 1), (1, 2), (2, 1), (2, 2), (3, 2), (3, 3))),
+)
 
 
 def digits(thing):
@@ -81,6 +93,63 @@ class Times(unittest.TestCase):
                     found = self.timed(judge_question, shape, m, scheme, question)
                     self.assertTrue(self.timed(question_holds, shape, m, scheme, question, found))
                     self.timed(answer, shape, m, scheme, demand, question)
+
+    def partial_cases(self, rng):
+        """Shapes, schemes and told worlds, as many as there may be."""
+        for shape, lots, sums, some in LONG:
+            yield shape, (lots, sums), some
+        for shape in ((4, 4, 4), (2, 4, 2, 4), (2, 2, 2), (2, 4), (3, 4), (2, 2, 2, 3)):
+            for _ in range(4):
+                scheme = helper.some_scheme(rng, shape, 4, 2, 9)
+                yield shape, scheme, tuple(sorted(rng.sample(worlds(shape), 8)))
+
+    def test_some_worlds(self):
+        rng = helper.seeded("times of some worlds")
+        for m, (shape, scheme, some) in itertools.product(MODULI, list(self.partial_cases(rng))):
+            top = m - 1 if m else 10 ** 30 - 1
+            any_told = tuple((world, tuple(rng.randint(top // 2, top) for _ in range(2))) for world in some)
+            found = helper.numbers_by_search(shape, m, scheme, helper.some_plan(rng, shape, m, scheme))
+            for told in (any_told, tuple((world, found[world]) for world in some)):
+                judged = self.timed(judge_told, shape, m, scheme, told)
+                self.assertTrue(self.timed(told_holds, shape, m, scheme, told, judged))
+                self.timed(clash, shape, m, scheme, told)
+            for world in (rng.choice(worlds(shape)), rng.choice(some)):
+                judged = self.timed(judge_further, shape, m, scheme, some, world, 1)
+                self.assertTrue(self.timed(further_holds, shape, m, scheme, some, world, 1, judged))
+            if len(worlds(shape)) == 8:
+                for one in ((), some[:4], some):
+                    self.timed(does_settle, shape, m, scheme, one)
+                    self.timed(settling, shape, m, scheme, one)
+
+    def test_hands(self):
+        rng = helper.seeded("times of hands")
+        for m, shape in itertools.product(MODULI, ((4, 4, 4), (2, 4, 2, 4), (4, 4, 2, 2))):
+            everything, seen = tuple(range(len(shape))), rng.choice(helper.every_lot(shape))
+            for lots in ((everything,) * 6, (everything, *[()] * 5), tuple(rng.choices(helper.every_lot(shape), k=6))):
+                scheme = (lots, tuple(tuple(rng.randint(-999, 999) for _ in lots) for _ in range(3)))
+                demand = demand_of(shape, m, scheme, helper.some_plan(rng, shape, m, scheme))
+                self.timed(needless, shape, m, scheme, demand)
+                self.timed(least_sights, shape, m, scheme, demand)
+                less = ((*lots[:5], seen), scheme[1])
+                web = tuple((k, k + 1) for k in range(5))
+                self.timed(least_rounds, shape, m, less, demand, web)
+                self.timed(least_rounds, shape, m, less, demand, tuple(itertools.permutations(range(6), 2)))
+        lots = ((0, 3), *[()] * 200)
+        self.timed(sights_after, (4, 4, 2, 2), lots, tuple((k, k + 1) for k in range(200)), 10 ** 30)
+
+    def test_watchers(self):
+        rng = helper.seeded("times of watchers")
+        for m, shape in itertools.product(MODULI[1:], ((2, 3, 4), (2, 3, 2, 2), (4, 3, 2, 1))):
+            everything = tuple(range(len(shape)))
+            for lots in ((everything,) * 4, tuple(rng.choices(helper.every_lot(shape), k=4))):
+                scheme = (lots, tuple(tuple(rng.randint(-999, 999) for _ in lots) for _ in range(3)))
+                demand = demand_of(shape, m, scheme, helper.some_plan(rng, shape, m, scheme))
+                for heard in ((), (0,), (1, 3), (0, 1, 2), (0, 1, 2, 3)):
+                    given = (shape, m, scheme, demand, heard, rng.choice(worlds(shape)), rng.choice(worlds(shape)))
+                    self.assertTrue(self.timed(alike_holds, *given, self.timed(judge_alike, *given)))
+                    self.timed(lots_alike, shape, m, scheme, demand, heard)
+                    self.timed(hidden_places, shape, m, scheme, demand, heard)
+                    self.timed(many_heard, shape, m, scheme, heard)
 
     def questions(self, rng, shape, scheme):
         """A question with as many triples as there may be, and one that the sums at some worlds tell."""
